@@ -1,0 +1,1 @@
+"""Steermill: machines of numbers that are steered and watched."""

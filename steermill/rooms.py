@@ -1,0 +1,36 @@
+"""Rooms: reduced lists of rows that stand for all sums of multiples of them."""
+
+from steermill.numbers import minus, number
+from steermill.tables import lead_of, reduced
+
+
+def joined(kind, one, other):
+    """The room of all rows that are sums of one of each."""
+    return reduced(kind, one + other)
+
+
+def against_by(kind, n, rows, free):
+    """A row against all these reduced rows: one at the free place, and at the leads what that asks for."""
+    told = [number(kind, 0)] * n
+    told[free] = number(kind, 1)
+    for row in rows:
+        told[lead_of(kind, row)] = minus(kind, number(kind, 0), row[free])
+    return told
+
+
+def against(kind, n, room):
+    """The room of all rows whose sum of products with each row of the room is nought."""
+    rows = reduced(kind, room)
+    leads = [lead_of(kind, row) for row in rows]
+    return reduced(kind, [against_by(kind, n, rows, free) for free in range(n) if free not in leads])
+
+
+def met(kind, n, one, other):
+    """The room of all rows that lie in both."""
+    # A row lies in a room just where it goes against all that goes against the room.
+    return against(kind, n, joined(kind, against(kind, n, one), against(kind, n, other)))
+
+
+def lies_in(kind, room, row):
+    """Whether the row lies in the room."""
+    return len(joined(kind, room, [row])) == len(room)

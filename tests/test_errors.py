@@ -1,0 +1,60 @@
+"""The refusals, and the names and arguments of the interface."""
+
+import unittest
+from importlib import import_module
+from inspect import signature
+
+from steermill import errors
+
+REFUSALS = ("NoBack", "NoText", "NoName", "NoRow")
+
+INTERFACE = {
+    "steermill.numbers": {
+        "number": ["kind", "whole"],
+        "plus": ["kind", "one", "other"],
+        "minus": ["kind", "one", "other"],
+        "times": ["kind", "one", "other"],
+        "over": ["kind", "one", "other"],
+    },
+    "steermill.tables": {
+        "product": ["kind", "one", "other"],
+        "turned": ["table"],
+        "image": ["kind", "table", "row"],
+        "reduced": ["kind", "rows"],
+        "solved": ["kind", "table", "row"],
+        "back": ["kind", "table"],
+    },
+    "steermill.rooms": {
+        "joined": ["kind", "one", "other"],
+        "met": ["kind", "n", "one", "other"],
+        "against": ["kind", "n", "room"],
+        "lies_in": ["kind", "room", "row"],
+    },
+}
+
+
+class Refusals(unittest.TestCase):
+    def test_any_refusal_is_a_value_error(self):
+        self.assertEqual(errors.MillError.__bases__, (ValueError,))
+
+    def test_each_stands_under_mill_error_alone(self):
+        for name in REFUSALS:
+            self.assertEqual(getattr(errors, name).__bases__, (errors.MillError,), name)
+
+    def test_none_stands_under_another(self):
+        for name in REFUSALS:
+            for other in REFUSALS:
+                if name != other:
+                    self.assertFalse(issubclass(getattr(errors, name), getattr(errors, other)), (name, other))
+
+
+class Interface(unittest.TestCase):
+    def test_names_and_arguments_are_as_told(self):
+        for module, functions in INTERFACE.items():
+            for name, arguments in functions.items():
+                found = getattr(import_module(module), name)
+                self.assertEqual(list(signature(found).parameters), arguments, (module, name))
+
+
+if __name__ == "__main__":
+    unittest.main()
