@@ -1,7 +1,7 @@
 """Rooms: reduced lists of rows that stand for all sums of multiples of them."""
 
 from steermill.numbers import minus, number
-from steermill.tables import lead_of, reduced
+from steermill.tables import image, lead_of, noughts, reduced
 
 
 def joined(kind, one, other):
@@ -11,7 +11,7 @@ def joined(kind, one, other):
 
 def against_by(kind, n, rows, free):
     """A row against all these reduced rows: one at the free place, and at the leads what that asks for."""
-    told = [number(kind, 0)] * n
+    told = noughts(kind, n)
     told[free] = number(kind, 1)
     for row in rows:
         told[lead_of(kind, row)] = minus(kind, number(kind, 0), row[free])
@@ -34,3 +34,19 @@ def met(kind, n, one, other):
 def lies_in(kind, room, row):
     """Whether the row lies in the room."""
     return len(joined(kind, room, [row])) == len(room)
+
+
+def widened(kind, table, rows, room):
+    """The room of all sums of the rows and of images under the table of what lies in the room."""
+    return joined(kind, rows, [image(kind, table, row) for row in room])
+
+
+def least_room(kind, table, rows):
+    """The least room in which the rows lie, and with each row its image under the table."""
+    room = reduced(kind, rows)
+    wider = widened(kind, table, rows, room)
+    # Each room lies in the next one, and where that has no row more, it is the same one from then on.
+    while len(wider) > len(room):
+        room = wider
+        wider = widened(kind, table, rows, room)
+    return room

@@ -1,8 +1,18 @@
 """Tables of numbers: products, turned tables, the reduced form, solving and backs."""
 
 from steermill.errors import NoBack
-from steermill.numbers import number
+from steermill.numbers import minus, number
 from steermill.wholes import quotient, scaled, sum_of_products, swept
+
+
+def noughts(kind, width):
+    """A row of noughts."""
+    return [number(kind, 0)] * width
+
+
+def difference(kind, one, other):
+    """The first row less the second, number by number."""
+    return [minus(kind, left, right) for left, right in zip(one, other)]
 
 
 def turned(table):
@@ -56,7 +66,7 @@ def reduced(kind, rows):
 def some_solution(kind, table, row):
     """A list whose image under the table is the row, or None where there is none."""
     width = len(table[0])
-    told = [number(kind, 0)] * width
+    told = noughts(kind, width)
     for line in reduced(kind, [left + [right] for left, right in zip(table, row)]):
         place = lead_of(kind, line)
         if place == width:
@@ -71,7 +81,7 @@ def solved(kind, table, row):
     if found is not None:
         return ("found", found)
     # Where no x is, there is always such a y: it is itself what a table with the columns as rows is solved for.
-    goal = [number(kind, 0)] * len(table[0]) + [number(kind, 1)]
+    goal = noughts(kind, len(table[0])) + [number(kind, 1)]
     return ("never", some_solution(kind, turned(table) + [row], goal))
 
 

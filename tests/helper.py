@@ -149,3 +149,203 @@ def lists_within(value):
         for part in value:
             found.extend(lists_within(part))
     return found
+
+
+def plain_cleared(kind, row, head, column):
+    """The row less a multiple of the head, so that nought stands in the column."""
+    return [plain(kind, told(kind, x - row[column] * y)) for x, y in zip(row, head)]
+
+
+def plain_reduced(kind, rows):
+    """The reduced form, reckoned column by column with Python's own numbers."""
+    left = [[plain(kind, x) for x in row] for row in rows]
+    done = []
+    for column in range(len(left[0]) if left else 0):
+        leading = [row for row in left if row[column] != 0]
+        if not leading:
+            continue
+        left.remove(leading[0])
+        head = [plain_over(kind, x, leading[0][column]) for x in leading[0]]
+        left = [plain_cleared(kind, row, head, column) for row in left]
+        done = [plain_cleared(kind, row, head, column) for row in done] + [head]
+    return [[told(kind, x) for x in row] for row in done]
+
+
+def plain_back(kind, table):
+    """The back of a table that has one."""
+    size = len(table)
+    both = plain_reduced(kind, [row + line for row, line in zip(table, unit_table(kind, size))])
+    return [row[size:] for row in both]
+
+
+def turn_by_dice(dice_box, kind, size, figures=1):
+    """A turn: a pair T, S of tables whose product S T is the unit."""
+    while True:
+        table = table_by_dice(dice_box, kind, size, size, figures)
+        if rank(kind, table) == size:
+            return table, plain_back(kind, table)
+
+
+def row_by_dice(dice_box, kind, width, figures=3):
+    return [by_dice(dice_box, kind, figures) for _ in range(width)]
+
+
+def machine_by_dice(dice_box, kind, n, hands, sights, figures=1):
+    return (table_by_dice(dice_box, kind, n, n, figures), table_by_dice(dice_box, kind, n, hands, figures),
+            table_by_dice(dice_box, kind, sights, n, figures))
+
+
+def nought_machine(kind, n, hands, sights):
+    return tuple([noughts(kind, columns) for _ in range(rows)] for rows, columns in ((n, n), (n, hands), (sights, n)))
+
+
+def chain_machine(kind, sizes):
+    """A machine of one hand and two sights whose four parts have just these sizes.
+
+    The hand puts into the first of a chain of a + b numbers, each handed on to the next, the first sight sees the
+    b-th of it; no hand puts into a second chain of c + d numbers, the second sight sees the d-th of that.
+    """
+    a, b, c, d = sizes
+    n = a + b + c + d
+    A, B, C = nought_machine(kind, n, 1, 2)
+    one = told(kind, 1)
+    for start, end in ((0, a + b), (a + b, n)):
+        for k in range(start, end - 1):
+            A[k + 1][k] = one
+    if a + b > 0:
+        B[0][0] = one
+    if b > 0:
+        C[0][b - 1] = one
+    if d > 0:
+        C[1][a + b + d - 1] = one
+    return (A, B, C)
+
+
+def all_sizes(most):
+    """Each tuple of four sizes that come to one or more, and to at most so many."""
+    return [sizes for sizes in all_choices(range(most + 1), repeat=4) if 1 <= sum(sizes) <= most]
+
+
+def parted_by_dice(dice_box, kind, sizes, hands, sights, figures=1):
+    """A machine with noughts wherever parts of these sizes ask for them, and else drawn numbers."""
+    parts = [part for part, size in enumerate(sizes) for _ in range(size)]
+    barred = ((1, 0), (1, 2), (2, 0), (2, 1), (3, 0), (3, 1), (3, 2))
+    A = [[told(kind, 0) if (row, column) in barred else by_dice(dice_box, kind, figures) for column in parts]
+         for row in parts]
+    B = [noughts(kind, hands) if row >= 2 else row_by_dice(dice_box, kind, hands, figures) for row in parts]
+    C = [[told(kind, 0) if column in (0, 2) else by_dice(dice_box, kind, figures) for column in parts]
+         for _ in range(sights)]
+    return (A, B, C)
+
+
+MACHINE_SIZES = ((1, 1, 1), (1, 3, 2), (2, 1, 1), (2, 2, 3), (3, 1, 2), (3, 3, 1), (4, 1, 1), (4, 2, 2), (5, 1, 1),
+                 (5, 1, 3), (5, 2, 1), (5, 3, 3))
+PART_SIZES = ((1, 1, 1, 1), (2, 1, 1, 1), (1, 2, 1, 1), (1, 1, 2, 1), (1, 1, 1, 2), (0, 2, 1, 1), (2, 0, 1, 1),
+              (1, 2, 0, 1), (1, 2, 1, 0), (0, 3, 0, 2), (2, 2, 0, 0), (0, 0, 2, 2), (0, 2, 2, 0), (2, 0, 0, 3),
+              (0, 0, 3, 0), (3, 0, 0, 0), (0, 0, 0, 4), (0, 1, 1, 1), (0, 1, 0, 0), (0, 5, 0, 0), (0, 2, 0, 0),
+              (1, 0, 0, 1), (1, 1, 1, 0), (0, 3, 0, 0), (1, 0, 2, 1), (1, 3, 0, 1), (1, 0, 3, 1))
+
+
+def machines_of(name, kinds=KINDS):
+    """Pairs of a kind and a machine: drawn ones, ones of noughts, and ones in parts, as they stand and turned."""
+    box = dice(name)
+    for kind in kinds:
+        for n, hands, sights in MACHINE_SIZES:
+            yield kind, machine_by_dice(box, kind, n, hands, sights)
+            yield kind, nought_machine(kind, n, hands, sights)
+        for sizes in PART_SIZES:
+            yield kind, chain_machine(kind, sizes)
+            machine = parted_by_dice(box, kind, sizes, box.randint(1, 3), box.randint(1, 3))
+            yield kind, machine
+            yield kind, plain_turned_by(kind, machine, *turn_by_dice(box, kind, sum(sizes)))
+
+
+def small_machines(prime, n, hands, sights, count):
+    """One of noughts and so many drawn ones, to go through all standings with."""
+    box = dice("small machines")
+    drawn = [machine_by_dice(box, prime, n, hands, sights) for _ in range(count)]
+    return [nought_machine(prime, n, hands, sights)] + drawn
+
+
+def sizes_of(machine):
+    """How many numbers, hands and sights a machine has."""
+    return len(machine[0]), len(machine[1][0]), len(machine[2])
+
+
+def plain_image(kind, table, row):
+    return [dot(kind, line, row) for line in table]
+
+
+def plain_sum(kind, one, other):
+    return [told(kind, plain(kind, x) + plain(kind, y)) for x, y in zip(one, other, strict=True)]
+
+
+def plain_less(kind, one, other):
+    return [told(kind, plain(kind, x) - plain(kind, y)) for x, y in zip(one, other, strict=True)]
+
+
+def plain_next(kind, machine, standing, inputs):
+    return plain_sum(kind, plain_image(kind, machine[0], standing), plain_image(kind, machine[1], inputs))
+
+
+def plain_end(kind, machine, standing, inputs):
+    """The standing behind the last turn."""
+    for put_in in inputs:
+        standing = plain_next(kind, machine, standing, put_in)
+    return standing
+
+
+def plain_run(kind, machine, standing, inputs):
+    return [plain_image(kind, machine[2], plain_end(kind, machine, standing, inputs[:k]))
+            for k in range(len(inputs) + 1)]
+
+
+def resting(kind, machine, turns):
+    """Inputs of noughts."""
+    return [noughts(kind, len(machine[1][0])) for _ in range(turns)]
+
+
+def plain_powers(kind, table, many):
+    """The unit, the table, its product with itself and so on."""
+    powers = [unit_table(kind, len(table))]
+    while len(powers) < many:
+        powers.append(plain_product(kind, powers[-1], table))
+    return powers[:many]
+
+
+def plain_marks(kind, machine, many):
+    return [plain_product(kind, plain_product(kind, machine[2], power), machine[1])
+            for power in plain_powers(kind, machine[0], many)]
+
+
+def pushed_columns(kind, machine, many):
+    """The columns of B, A B, A A B and so on, of so many tables."""
+    return [column for power in plain_powers(kind, machine[0], many)
+            for column in columns_of(plain_product(kind, power, machine[1]))]
+
+
+def pulled_rows(kind, machine, many):
+    """The rows of C, C A, C A A and so on, of so many tables."""
+    return [row for power in plain_powers(kind, machine[0], many) for row in plain_product(kind, machine[2], power)]
+
+
+def plain_steered(kind, machine):
+    return plain_reduced(kind, pushed_columns(kind, machine, len(machine[0])))
+
+
+def is_room_against(kind, room, rows, width):
+    """Whether this is the room of all rows that go against the told ones."""
+    return (rows_in_form(kind, room, width) and is_reduced(kind, room) and len(room) == width - rank(kind, rows)
+            and all(dot(kind, row, other) == told(kind, 0) for row in room for other in rows))
+
+
+def plain_turned_by(kind, machine, T, S):
+    A, B, C = machine
+    return (plain_product(kind, plain_product(kind, S, A), T), plain_product(kind, S, B), plain_product(kind, C, T))
+
+
+def is_machine(kind, machine, n, hands, sights):
+    """Whether this is a tuple of three tables of these sizes with numbers in the one form."""
+    return (isinstance(machine, tuple) and len(machine) == 3
+            and all(rows_in_form(kind, table, width) and len(table) == height for table, height, width in
+                    zip(machine, (n, n, sights), (n, hands, n))))

@@ -30,6 +30,27 @@ INTERFACE = {
         "against": ["kind", "n", "room"],
         "lies_in": ["kind", "room", "row"],
     },
+    "steermill.machines": {
+        "next_of": ["kind", "machine", "standing", "inputs"],
+        "seen_of": ["kind", "machine", "standing"],
+        "run": ["kind", "machine", "standing", "inputs"],
+        "marks": ["kind", "machine", "many"],
+        "turned_by": ["kind", "machine", "T", "S"],
+    },
+    "steermill.steering": {
+        "steered_room": ["kind", "machine"],
+        "steer": ["kind", "machine", "start", "goal", "turns"],
+        "fewest": ["kind", "machine", "start", "goal", "most"],
+    },
+    "steermill.seeing": {
+        "unseen_room": ["kind", "machine"],
+        "told_apart": ["kind", "machine", "one", "other"],
+        "standings": ["kind", "machine", "answers"],
+    },
+    "steermill.parts": {
+        "parting": ["kind", "machine"],
+        "core": ["kind", "machine"],
+    },
 }
 
 

@@ -4,10 +4,20 @@ import unittest
 from copy import deepcopy
 
 from steermill.errors import NoBack
+from steermill.machines import marks, next_of, run, seen_of, turned_by
 from steermill.numbers import minus, number, over, plus, times
+from steermill.parts import core, parting
 from steermill.rooms import against, joined, lies_in, met
+from steermill.seeing import standings, told_apart, unseen_room
+from steermill.steering import fewest, steer, steered_room
 from steermill.tables import back, image, product, reduced, solved, turned
-from tests.helper import KINDS, in_form, lists_within, noughts, row_of, table_of, told, unit_table
+from tests.helper import (KINDS, chain_machine, dice, in_form, lists_within, machine_by_dice, nought_machine,
+                          noughts, plain_end, plain_run, plain_turned_by, resting, row_by_dice, row_of, sizes_of,
+                          table_by_dice, table_of, told, turn_by_dice, unit_table)
+
+# What is not a list.
+TOLD_AS = {solved: (tuple,), lies_in: (bool,), turned_by: (tuple,), steer: (tuple,), fewest: (int, type(None)),
+           told_apart: (tuple,), standings: (tuple,), parting: (tuple,), core: (tuple,)}
 
 
 def asked_of_tables(kind):
@@ -36,6 +46,46 @@ def asked_of_tables(kind):
     ]
 
 
+def untouched_machines(kind):
+    """Machines of units and noughts, whose tables could be told as they stand, and others."""
+    box = dice("untouched machines")
+    units = unit_table(kind, 3)
+    return [
+        (units, unit_table(kind, 3), unit_table(kind, 3)), (units, units, units), nought_machine(kind, 3, 2, 1),
+        nought_machine(kind, 1, 1, 1), chain_machine(kind, (0, 3, 0, 0)), chain_machine(kind, (1, 1, 1, 1)),
+        plain_turned_by(kind, chain_machine(kind, (1, 2, 1, 1)), *turn_by_dice(box, kind, 5)),
+        machine_by_dice(box, kind, 2, 1, 1), machine_by_dice(box, kind, 4, 2, 3),
+    ]
+
+
+def asked_of_machine(kind, machine):
+    box = dice("untouched standings")
+    n, hands, sights = sizes_of(machine)
+    start, goal, nought = row_by_dice(box, kind, n), row_by_dice(box, kind, n), noughts(kind, n)
+    inputs = table_by_dice(box, kind, 3, hands)
+    led_to = plain_end(kind, machine, start, inputs)
+    seen = plain_run(kind, machine, start, resting(kind, machine, n + 1))
+    units = unit_table(kind, n)
+    T, S = turn_by_dice(box, kind, n)
+    asked = [
+        (next_of, [start, inputs[0]]), (next_of, [nought, inputs[0]]), (seen_of, [start]), (seen_of, [nought]),
+        (run, [start, []]), (run, [start, inputs]), (run, [nought, [inputs[0]] * 3]),
+        (marks, [0]), (marks, [1]), (marks, [4]), (turned_by, [units, units]), (turned_by, [T, S]),
+        (steered_room, []), (steer, [start, start, 0]), (steer, [start, goal, 0]), (steer, [start, goal, 2]),
+        (steer, [start, led_to, 3]), (steer, [nought, nought, 8]), (fewest, [start, start, 3]),
+        (fewest, [start, led_to, 3]), (fewest, [start, goal, 3]),
+        (unseen_room, []), (told_apart, [start, start]), (told_apart, [start, goal]), (told_apart, [start, nought]),
+        (standings, [seen[:1]]), (standings, [seen]), (standings, [[noughts(kind, sights)] * 3]),
+        (standings, [table_by_dice(box, kind, n + 1, sights)]), (parting, []), (core, []),
+    ]
+    return [(function, [kind, machine] + handed) for function, handed in asked]
+
+
+def asked(kind):
+    of_machines = [case for machine in untouched_machines(kind) for case in asked_of_machine(kind, machine)]
+    return asked_of_tables(kind) + of_machines
+
+
 def spoil(value):
     """Changes every list in what was told."""
     for found in lists_within(value):
@@ -46,7 +96,7 @@ def spoil(value):
 class Untouched(unittest.TestCase):
     def test_what_is_handed_in_stays_and_is_not_shared(self):
         for kind in KINDS:
-            for function, handed in asked_of_tables(kind):
+            for function, handed in asked(kind):
                 case = (kind, function, deepcopy(handed))
                 before = deepcopy(handed)
                 answer = function(*handed)
@@ -58,7 +108,7 @@ class Untouched(unittest.TestCase):
 
     def test_what_was_told_may_be_changed(self):
         for kind in KINDS:
-            for function, handed in asked_of_tables(kind):
+            for function, handed in asked(kind):
                 case = (kind, function, deepcopy(handed))
                 before = deepcopy(handed)
                 answer = function(*handed)
@@ -71,7 +121,7 @@ class Untouched(unittest.TestCase):
 
     def test_what_was_handed_in_may_be_changed_afterwards(self):
         for kind in KINDS:
-            for function, handed in asked_of_tables(kind):
+            for function, handed in asked(kind):
                 case = (kind, function, deepcopy(handed))
                 # Several cases share their tables, so only a copy may be spoilt.
                 copied = deepcopy(handed)
@@ -92,9 +142,9 @@ class Untouched(unittest.TestCase):
 class Kinds(unittest.TestCase):
     def test_what_sort_of_value_is_told(self):
         for kind in KINDS:
-            for function, handed in asked_of_tables(kind):
-                wanted = {solved: tuple, lies_in: bool}.get(function, list)
-                self.assertIs(type(function(*handed)), wanted, (kind, function))
+            for function, handed in asked(kind):
+                wanted = TOLD_AS.get(function, (list,))
+                self.assertIn(type(function(*handed)), wanted, (kind, function))
 
     def test_whole_numbers_are_no_truths(self):
         for kind in KINDS:
@@ -102,7 +152,7 @@ class Kinds(unittest.TestCase):
             for answer in (number(kind, 1), plus(kind, one, told(kind, 0)), minus(kind, one, told(kind, 0)),
                            times(kind, one, one), over(kind, one, one), number(kind, 0)):
                 self.assertTrue(in_form(kind, answer), (kind, answer))
-            for function, handed in asked_of_tables(kind):
+            for function, handed in asked(kind):
                 for found in lists_within(function(*handed)):
                     for part in found:
                         self.assertTrue(isinstance(part, list) or in_form(kind, part), (kind, function, part))

@@ -1,0 +1,47 @@
+"""Machines (A, B, C): next standings, what is seen, runs, marks, and machines turned by a turn."""
+
+from steermill.tables import image, product
+
+
+def next_of(kind, machine, standing, inputs):
+    """The next standing: the image of the standing under A plus that of the inputs under B."""
+    # A and B side by side have this sum as one image of standing and inputs.
+    both = [left + right for left, right in zip(machine[0], machine[1])]
+    return image(kind, both, standing + inputs)
+
+
+def drifted(kind, machine, standing):
+    """The next standing where nothing is put in."""
+    return image(kind, machine[0], standing)
+
+
+def seen_of(kind, machine, standing):
+    """What is seen of the standing."""
+    return image(kind, machine[2], standing)
+
+
+def run(kind, machine, standing, inputs):
+    """What is seen of the standing ahead of each turn and of that behind the last."""
+    here = standing
+    told = [seen_of(kind, machine, here)]
+    for put_in in inputs:
+        here = next_of(kind, machine, here, put_in)
+        told.append(seen_of(kind, machine, here))
+    return told
+
+
+def marks(kind, machine, many):
+    """The first so many of the tables C B, C A B, C A A B and so on."""
+    told = []
+    left = machine[2]
+    for place in range(many):
+        if place > 0:
+            left = product(kind, left, machine[0])
+        told.append(product(kind, left, machine[1]))
+    return told
+
+
+def turned_by(kind, machine, T, S):
+    """The machine (S A T, S B, C T)."""
+    A = product(kind, product(kind, S, machine[0]), T)
+    return (A, product(kind, S, machine[1]), product(kind, machine[2], T))
