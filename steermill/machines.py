@@ -1,13 +1,16 @@
 """Machines (A, B, C): next standings, what is seen, runs, marks, and machines turned by a turn."""
 
-from steermill.tables import image, product
+from steermill.tables import image, product, turned
+
+
+def leading(machine):
+    """A and B side by side: the table that leads standing and inputs, one behind the other, to the next standing."""
+    return [left + right for left, right in zip(machine[0], machine[1])]
 
 
 def next_of(kind, machine, standing, inputs):
     """The next standing: the image of the standing under A plus that of the inputs under B."""
-    # A and B side by side have this sum as one image of standing and inputs.
-    both = [left + right for left, right in zip(machine[0], machine[1])]
-    return image(kind, both, standing + inputs)
+    return image(kind, leading(machine), standing + inputs)
 
 
 def drifted(kind, machine, standing):
@@ -39,6 +42,16 @@ def marks(kind, machine, many):
             left = product(kind, left, machine[0])
         told.append(product(kind, left, machine[1]))
     return told
+
+
+def has_marks(kind, machine, told):
+    """Whether these are the first marks of the machine."""
+    return marks(kind, machine, len(told)) == told
+
+
+def mirrored(machine):
+    """The machine whose hands are the sights of this one, and whose sights are its hands."""
+    return (turned(machine[0]), turned(machine[2]), turned(machine[1]))
 
 
 def turned_by(kind, machine, T, S):

@@ -2,7 +2,7 @@
 
 from steermill.machines import drifted, run, seen_of
 from steermill.rooms import against, least_room
-from steermill.tables import difference, noughts, product, some_solution, turned
+from steermill.tables import difference, noughts, product, some_solution, strung, turned
 
 
 def unseen_room(kind, machine):
@@ -30,14 +30,6 @@ def sights_of_turns(kind, machine, many):
     for turn in range(many - 1):
         block = product(kind, block, machine[0])
         told.extend(block)
-    return told
-
-
-def strung(rows):
-    """The numbers of all rows, one row behind the other."""
-    told = []
-    for row in rows:
-        told.extend(row)
     return told
 
 

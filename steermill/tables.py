@@ -15,6 +15,14 @@ def difference(kind, one, other):
     return [minus(kind, left, right) for left, right in zip(one, other)]
 
 
+def strung(rows):
+    """The numbers of all rows, one row behind the other."""
+    told = []
+    for row in rows:
+        told.extend(row)
+    return told
+
+
 def turned(table):
     """The table whose rows are the columns of this one."""
     return [[row[column] for row in table] for column in range(len(table[0]))]
@@ -39,6 +47,19 @@ def image(kind, table, row):
 def unit(kind, size):
     """The table with one where row and column are the same, else nought."""
     return [[number(kind, int(row == column)) for column in range(size)] for row in range(size)]
+
+
+def corners(kind, one, other):
+    """The table with the first one above on the left, the second one below on the right, and else noughts."""
+    above = [row + noughts(kind, len(other[0])) for row in one]
+    return above + [noughts(kind, len(one[0])) + row for row in other]
+
+
+def over_one_bottom(kind, table):
+    """A pair (rows, bottom): each number of the table is its whole number in the rows over the bottom."""
+    width = len(table[0])
+    pair = scaled(kind, strung(table))
+    return ([pair[0][row * width:(row + 1) * width] for row in range(len(table))], pair[1])
 
 
 def lead_of(kind, row):

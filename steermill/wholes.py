@@ -23,10 +23,19 @@ def quotient(kind, top, bottom):
     return over(kind, number(kind, top), number(kind, bottom))
 
 
+def whole_sum(one, other):
+    """The sum of products of two rows of whole numbers."""
+    return sum([left * right for left, right in zip(one, other)])
+
+
+def whole_image(rows, row):
+    """For each of the rows of whole numbers its sum of products with the told row."""
+    return [whole_sum(left, row) for left in rows]
+
+
 def sum_of_products(kind, one, other):
     """The sum of products of two rows, each given as a pair of scaled."""
-    top = sum([left * right for left, right in zip(one[0], other[0])])
-    return quotient(kind, top, one[1] * other[1])
+    return quotient(kind, whole_sum(one[0], other[0]), one[1] * other[1])
 
 
 def eased(kind, wholes):

@@ -349,3 +349,146 @@ def is_machine(kind, machine, n, hands, sights):
     return (isinstance(machine, tuple) and len(machine) == 3
             and all(rows_in_form(kind, table, width) and len(table) == height for table, height, width in
                     zip(machine, (n, n, sights), (n, hands, n))))
+
+
+def plain_minor_step(kind, table, row, minors):
+    """Of the determinants of the rows ahead, by the columns they use, those with this row taken in too."""
+    wider = {}
+    for used, poly in minors.items():
+        for column in range(len(table)):
+            if column not in used:
+                sign = -1 if sum(place > column for place in used) % 2 else 1
+                entry = [-plain(kind, table[row][column]), 1 if column == row else 0]
+                sums = wider.setdefault(used | {column}, [0] * (row + 2))
+                for power, factor in enumerate(poly):
+                    for more, part in enumerate(entry):
+                        sums[power + more] += sign * factor * part
+    return {used: [plain(kind, told(kind, x)) for x in sums] for used, sums in wider.items()}
+
+
+def plain_great(kind, table):
+    """The determinant of the unknown less the table, opened up row by row over all choices of columns."""
+    minors = {frozenset(): [1]}
+    for row in range(len(table)):
+        minors = plain_minor_step(kind, table, row, minors)
+    return [told(kind, x) for x in minors[frozenset(range(len(table)))]]
+
+
+def poly_by_dice(dice_box, kind, degree, figures=3):
+    return row_by_dice(dice_box, kind, degree, figures) + [told(kind, 1)]
+
+
+def to_rest(kind, n):
+    """The polynomial of degree n whose numbers but the last are nought."""
+    return noughts(kind, n) + [told(kind, 1)]
+
+
+def poly_product(kind, one, other):
+    sums = [0] * (len(one) + len(other) - 1)
+    for low, x in enumerate(one):
+        for more, y in enumerate(other):
+            sums[low + more] += plain(kind, x) * plain(kind, y)
+    return [told(kind, x) for x in sums]
+
+
+def poly_rest(kind, one, other):
+    """What is left of the first polynomial by the second, of fewer numbers than that; [] where nothing is."""
+    left = [plain(kind, x) for x in one]
+    by = [plain(kind, x) for x in other]
+    while len(left) >= len(by):
+        factor = plain_over(kind, left[-1], by[-1])
+        shift = len(left) - len(by)
+        left = [plain(kind, told(kind, x - factor * by[k - shift])) if k >= shift else x for k, x in enumerate(left)]
+        while left and left[-1] == 0:
+            left.pop()
+    return [told(kind, x) for x in left]
+
+
+def plain_table_sum(kind, one, other):
+    return [plain_sum(kind, left, right) for left, right in zip(one, other, strict=True)]
+
+
+def plain_ruled(kind, machine, F):
+    """A plus B F."""
+    return plain_table_sum(kind, machine[0], plain_product(kind, machine[1], F))
+
+
+def plain_watched(kind, machine, L):
+    """A plus L C."""
+    return plain_table_sum(kind, machine[0], plain_product(kind, L, machine[2]))
+
+
+def mirror_of(machine):
+    """The machine with hands for sights and sights for hands."""
+    return columns_of(machine[0]), columns_of(machine[2]), columns_of(machine[1])
+
+
+def in_corners(kind, one, other):
+    """The table with these two tables along the diagonal, and else noughts."""
+    return ([row + noughts(kind, len(other[0])) for row in one]
+            + [noughts(kind, len(one[0])) + row for row in other])
+
+
+def handed_on(kind, n, row, hands, sights):
+    """A machine that is steered and seen in whole: each number is handed on to the next, the last by the told row."""
+    A = [[told(kind, 1) if column == place + 1 else told(kind, 0) for column in range(n)] for place in range(n)]
+    A[n - 1] = list(row)
+    B = [noughts(kind, hands) for _ in range(n)]
+    B[n - 1][0] = told(kind, 1)
+    C = [noughts(kind, n) for _ in range(sights)]
+    C[0][0] = told(kind, 1)
+    return (A, B, C)
+
+
+def whole_machines(name, kinds=KINDS, most=5):
+    """Pairs of a kind and a machine that is steered and seen in whole, of each count of numbers, hands and sights."""
+    box = dice(name)
+    for kind in kinds:
+        for n, hands, sights in all_choices(range(1, most + 1), (1, 2, 3), (1, 2, 3)):
+            yield kind, whole_by_dice(box, kind, n, hands, sights)
+
+
+def whole_by_dice(dice_box, kind, n, hands, sights):
+    """A turned machine, steered and seen in whole; of the further hands and sights some may do without the first."""
+    A, B, C = handed_on(kind, n, row_by_dice(dice_box, kind, n, 1), hands, sights)
+    for row in B:
+        row[1:] = row_by_dice(dice_box, kind, hands - 1, 1)
+    C[1:] = table_by_dice(dice_box, kind, sights - 1, n, 1)
+    return plain_turned_by(kind, (A, B, C), *turn_by_dice(dice_box, kind, n))
+
+
+def split_machine(kind, lengths):
+    """Chains of these lengths, each with a hand and a sight of its own, so that no one hand steers more than one."""
+    n, many = sum(lengths), len(lengths)
+    A, B, C = nought_machine(kind, n, many, many)
+    start = 0
+    for chain, length in enumerate(lengths):
+        for place in range(start, start + length - 1):
+            A[place + 1][place] = told(kind, 1)
+        B[start][chain] = told(kind, 1)
+        C[chain][start + length - 1] = told(kind, 1)
+        start += length
+    return (A, B, C)
+
+
+SPLITS = ((1, 1), (1, 1, 1), (2, 1), (1, 2), (2, 2), (1, 2, 1), (2, 3), (4, 1), (2, 2, 1), (1, 1, 3), (1, 3, 1))
+
+
+def split_machines(name, kinds=KINDS):
+    """Pairs of a kind and a machine of several chains, as it stands and turned."""
+    box = dice(name)
+    for kind in kinds:
+        for lengths in SPLITS:
+            machine = split_machine(kind, lengths)
+            yield kind, machine
+            yield kind, plain_turned_by(kind, machine, *turn_by_dice(box, kind, sum(lengths)))
+
+
+def rule_by_dice(dice_box, kind, machine, figures=1):
+    n, hands, sights = sizes_of(machine)
+    return table_by_dice(dice_box, kind, hands, n, figures)
+
+
+def watcher_by_dice(dice_box, kind, machine, figures=1):
+    n, hands, sights = sizes_of(machine)
+    return table_by_dice(dice_box, kind, n, sights, figures)

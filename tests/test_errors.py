@@ -51,6 +51,21 @@ INTERFACE = {
         "parting": ["kind", "machine"],
         "core": ["kind", "machine"],
     },
+    "steermill.polys": {
+        "great": ["kind", "table"],
+    },
+    "steermill.rules": {
+        "rule_for": ["kind", "machine", "polynomial"],
+        "rest_rule": ["kind", "machine"],
+    },
+    "steermill.watchers": {
+        "watcher_for": ["kind", "machine", "polynomial"],
+        "put_together": ["kind", "machine", "F", "L"],
+    },
+    "steermill.least": {
+        "read_off": ["kind", "marks"],
+        "compared": ["kind", "one", "other"],
+    },
 }
 
 

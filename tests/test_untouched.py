@@ -4,20 +4,26 @@ import unittest
 from copy import deepcopy
 
 from steermill.errors import NoBack
+from steermill.least import compared, read_off
 from steermill.machines import marks, next_of, run, seen_of, turned_by
 from steermill.numbers import minus, number, over, plus, times
 from steermill.parts import core, parting
+from steermill.polys import great
 from steermill.rooms import against, joined, lies_in, met
+from steermill.rules import rest_rule, rule_for
 from steermill.seeing import standings, told_apart, unseen_room
 from steermill.steering import fewest, steer, steered_room
 from steermill.tables import back, image, product, reduced, solved, turned
+from steermill.watchers import put_together, watcher_for
 from tests.helper import (KINDS, chain_machine, dice, in_form, lists_within, machine_by_dice, nought_machine,
-                          noughts, plain_end, plain_run, plain_turned_by, resting, row_by_dice, row_of, sizes_of,
-                          table_by_dice, table_of, told, turn_by_dice, unit_table)
+                          noughts, plain_end, plain_marks, plain_run, plain_turned_by, poly_by_dice, resting,
+                          row_by_dice, row_of, rule_by_dice, sizes_of, table_by_dice, table_of, to_rest, told,
+                          turn_by_dice, unit_table, watcher_by_dice)
 
 # What is not a list.
 TOLD_AS = {solved: (tuple,), lies_in: (bool,), turned_by: (tuple,), steer: (tuple,), fewest: (int, type(None)),
-           told_apart: (tuple,), standings: (tuple,), parting: (tuple,), core: (tuple,)}
+           told_apart: (tuple,), standings: (tuple,), parting: (tuple,), core: (tuple,), rule_for: (tuple,),
+           rest_rule: (tuple,), watcher_for: (tuple,), read_off: (tuple,), compared: (tuple,)}
 
 
 def asked_of_tables(kind):
@@ -43,6 +49,10 @@ def asked_of_tables(kind):
         (met, [kind, 3, units, room]),
         (against, [kind, 3, []]), (against, [kind, 3, room]), (against, [kind, 3, units]),
         (lies_in, [kind, room, row]), (lies_in, [kind, [], row]), (lies_in, [kind, units, row]),
+        (great, [kind, square]), (great, [kind, units]), (great, [kind, [row[:1]]]), (great, [kind, [row] * 3]),
+        (read_off, [kind, [square] * 2]), (read_off, [kind, [square] * 6]), (read_off, [kind, [wide] * 8]),
+        (read_off, [kind, [units, square, units, square]]), (read_off, [kind, [[row], [row]]]),
+        (read_off, [kind, [[noughts(kind, 2)]] * 4]),
     ]
 
 
@@ -81,9 +91,28 @@ def asked_of_machine(kind, machine):
     return [(function, [kind, machine] + handed) for function, handed in asked]
 
 
+def asked_of_rules(kind, machine):
+    box = dice("untouched rules")
+    n, hands, sights = sizes_of(machine)
+    wished, rest = poly_by_dice(box, kind, n), to_rest(kind, n)
+    F, L = rule_by_dice(box, kind, machine), watcher_by_dice(box, kind, machine)
+    idle = [noughts(kind, n)] * hands, [noughts(kind, sights)] * n
+    other = plain_turned_by(kind, machine, *turn_by_dice(box, kind, n))
+    asked = [
+        (rule_for, [wished]), (rule_for, [rest]), (rest_rule, []), (watcher_for, [wished]), (watcher_for, [rest]),
+        (put_together, [F, L]), (put_together, [idle[0], idle[1]]),
+        (compared, [machine]), (compared, [other]), (compared, [machine_by_dice(box, kind, 2, hands, sights)]),
+    ]
+    told_marks = plain_marks(kind, machine, 2 * n)
+    return ([(function, [kind, machine] + handed) for function, handed in asked]
+            + [(read_off, [kind, told_marks]), (read_off, [kind, told_marks[:2]])])
+
+
 def asked(kind):
-    of_machines = [case for machine in untouched_machines(kind) for case in asked_of_machine(kind, machine)]
-    return asked_of_tables(kind) + of_machines
+    told_cases = asked_of_tables(kind)
+    for machine in untouched_machines(kind):
+        told_cases += asked_of_machine(kind, machine) + asked_of_rules(kind, machine)
+    return told_cases
 
 
 def spoil(value):
