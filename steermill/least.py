@@ -1,11 +1,12 @@
 """Least machines: machines read off their marks, and machines compared by them."""
 
+from steermill.joins import beside
 from steermill.machines import has_marks, mirrored
 from steermill.numbers import number
 from steermill.rooms import joined
 from steermill.seeing import unseen_room
 from steermill.steering import steered_room
-from steermill.tables import back, corners, difference, lead_of, noughts, over_one_bottom, strung, turned
+from steermill.tables import back, lead_of, negative, over_one_bottom, strung, turned
 from steermill.wholes import whole_image
 
 
@@ -63,13 +64,6 @@ def read_off(kind, marks):
     return ("machine", machine[0], machine[1], machine[2])
 
 
-def side_by_side(kind, one, other):
-    """The machine of both, with the same inputs, of which the first one's sights less the second one's are seen."""
-    nothing = noughts(kind, len(other[0]))
-    C = [left + difference(kind, nothing, right) for left, right in zip(one[2], other[2])]
-    return (corners(kind, one[0], other[0]), one[1] + other[1], C)
-
-
 def first_mark_seen(kind, machine):
     """The number of the first mark of the machine that is not all noughts, or None where there is none."""
     # Only whether a sum is nought is asked, so multiples that are whole numbers do, which is faster by far.
@@ -84,6 +78,12 @@ def first_mark_seen(kind, machine):
     return None
 
 
+def first_apart(kind, one, other):
+    """The number of the first mark by which the machines differ, or None where all are the same."""
+    # Side by side with the second one's sights taken from nought, the marks are the differences.
+    return first_mark_seen(kind, beside(kind, one, (other[0], other[1], negative(kind, other[2]))))
+
+
 def is_least(kind, machine):
     """Whether all of the machine is steered and seen."""
     return len(steered_room(kind, machine)) == len(machine[0]) and unseen_room(kind, machine) == []
@@ -91,12 +91,11 @@ def is_least(kind, machine):
 
 def compared(kind, one, other):
     """("apart", k), where the marks number k are the first to differ, ("turn", T, S), or ("alike",)."""
-    both = side_by_side(kind, one, other)
-    place = first_mark_seen(kind, both)
+    place = first_apart(kind, one, other)
     if place is not None:
         return ("apart", place)
     if not is_least(kind, one) or not is_least(kind, other):
         return ("alike",)
     # The same inputs lead from nought to each standing of the first and to what S makes of it in the second.
-    S = turned([row[len(one[0]):] for row in steered_room(kind, both)])
+    S = turned([row[len(one[0]):] for row in steered_room(kind, beside(kind, one, other))])
     return ("turn", back(kind, S), S)

@@ -1,11 +1,11 @@
 """Machines (A, B, C): next standings, what is seen, runs, marks, and machines turned by a turn."""
 
-from steermill.tables import image, product, turned
+from steermill.tables import abreast, image, product, turned
 
 
 def leading(machine):
     """A and B side by side: the table that leads standing and inputs, one behind the other, to the next standing."""
-    return [left + right for left, right in zip(machine[0], machine[1])]
+    return abreast(machine[0], machine[1])
 
 
 def next_of(kind, machine, standing, inputs):

@@ -1,7 +1,10 @@
 """Rooms: reduced lists of rows that stand for all sums of multiples of them."""
 
 from steermill.numbers import minus, number
-from steermill.tables import image, lead_of, noughts, reduced
+from steermill.tables import image, lead_of, noughts, over_one_bottom, reduced, unit
+
+# Two to the 61st less one.
+GREAT_PRIME = 2305843009213693951
 
 
 def joined(kind, one, other):
@@ -41,8 +44,8 @@ def widened(kind, table, rows, room):
     return joined(kind, rows, [image(kind, table, row) for row in room])
 
 
-def least_room(kind, table, rows):
-    """The least room in which the rows lie, and with each row its image under the table."""
+def grown_room(kind, table, rows):
+    """The room of the rows, widened by images under the table for as long as that makes it wider."""
     room = reduced(kind, rows)
     wider = widened(kind, table, rows, room)
     # Each room lies in the next one, and where that has no row more, it is the same one from then on.
@@ -50,3 +53,17 @@ def least_room(kind, table, rows):
         room = wider
         wider = widened(kind, table, rows, room)
     return room
+
+
+def rests_of(table):
+    """A table of fractions, or rather a multiple of it, as rests by the great prime."""
+    return [[whole % GREAT_PRIME for whole in row] for row in over_one_bottom(0, table)[0]]
+
+
+def least_room(kind, table, rows):
+    """The least room in which the rows lie, and with each row its image under the table."""
+    n = len(table)
+    # What is all by rests of multiples is all by fractions too, and short rests are reckoned with faster by far.
+    if kind == 0 and len(grown_room(GREAT_PRIME, rests_of(table), rests_of(rows))) == n:
+        return unit(kind, n)
+    return grown_room(kind, table, rows)

@@ -2,7 +2,7 @@
 
 from steermill.machines import drifted
 from steermill.rooms import least_room, lies_in, widened
-from steermill.tables import difference, noughts, product, solved, turned
+from steermill.tables import abreast, difference, nought_table, product, solved, turned
 
 
 def steered_room(kind, machine):
@@ -21,13 +21,19 @@ def left_to_go(kind, machine, start, goal, turns):
 def moved_by(kind, machine, turns):
     """The table whose image of all inputs, the last turn's first, is what they lead to from nought."""
     # A column of noughts stands ahead, so that without turns this is a table too.
-    told = [noughts(kind, 1) for row in machine[1]]
+    told = nought_table(kind, len(machine[1]), 1)
     block = machine[1]
     for turn in range(turns):
         if turn > 0:
             block = product(kind, machine[0], block)
-        told = [left + right for left, right in zip(told, block)]
+        told = abreast(told, block)
     return told
+
+
+def in_turn(strung_out, hands):
+    """The inputs, a list for each turn, that stand in a list as moved_by asks for them."""
+    last_first = [strung_out[place:place + hands] for place in range(1, len(strung_out), hands)]
+    return list(reversed(last_first))
 
 
 def steer(kind, machine, start, goal, turns):
@@ -38,9 +44,7 @@ def steer(kind, machine, start, goal, turns):
     answer = solved(kind, moved_by(kind, machine, used), left_to_go(kind, machine, start, goal, turns))
     if answer[0] == "never":
         return answer
-    rests = [noughts(kind, hands) for turn in range(turns - used)]
-    last_first = [answer[1][1 + turn * hands:1 + (turn + 1) * hands] for turn in range(used)]
-    return ("inputs", rests + list(reversed(last_first)))
+    return ("inputs", nought_table(kind, turns - used, hands) + in_turn(answer[1], hands))
 
 
 def fewest(kind, machine, start, goal, most):

@@ -10,9 +10,29 @@ def noughts(kind, width):
     return [number(kind, 0)] * width
 
 
+def nought_table(kind, rows, columns):
+    """A table of noughts."""
+    return [noughts(kind, columns) for row in range(rows)]
+
+
+def copied(table):
+    """The same table, with rows of its own."""
+    return [list(row) for row in table]
+
+
 def difference(kind, one, other):
     """The first row less the second, number by number."""
     return [minus(kind, left, right) for left, right in zip(one, other)]
+
+
+def negative(kind, table):
+    """The table with each number taken from nought."""
+    return [difference(kind, noughts(kind, len(row)), row) for row in table]
+
+
+def abreast(one, other):
+    """The table whose rows are the first one's, each with the second one's behind it."""
+    return [left + right for left, right in zip(one, other)]
 
 
 def strung(rows):
@@ -51,8 +71,8 @@ def unit(kind, size):
 
 def corners(kind, one, other):
     """The table with the first one above on the left, the second one below on the right, and else noughts."""
-    above = [row + noughts(kind, len(other[0])) for row in one]
-    return above + [noughts(kind, len(one[0])) + row for row in other]
+    above = abreast(one, nought_table(kind, len(one), len(other[0])))
+    return above + abreast(nought_table(kind, len(other), len(one[0])), other)
 
 
 def over_one_bottom(kind, table):
@@ -88,7 +108,7 @@ def some_solution(kind, table, row):
     """A list whose image under the table is the row, or None where there is none."""
     width = len(table[0])
     told = noughts(kind, width)
-    for line in reduced(kind, [left + [right] for left, right in zip(table, row)]):
+    for line in reduced(kind, abreast(table, turned([row]))):
         place = lead_of(kind, line)
         if place == width:
             return None
@@ -110,7 +130,7 @@ def back(kind, table):
     """The table whose product with this one, on either side, is the unit."""
     size = len(table)
     units = unit(kind, size)
-    rows = reduced(kind, [left + right for left, right in zip(table, units)])
+    rows = reduced(kind, abreast(table, units))
     if [row[:size] for row in rows] != units:
         raise NoBack("the table has no back")
     return [row[size:] for row in rows]

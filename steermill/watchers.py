@@ -2,7 +2,7 @@
 
 from steermill.machines import mirrored
 from steermill.rules import rule_for, ruled
-from steermill.tables import difference, noughts, product, turned
+from steermill.tables import abreast, difference, negative, product, turned
 
 
 def watcher_for(kind, machine, polynomial):
@@ -18,8 +18,7 @@ def watcher_for(kind, machine, polynomial):
 def put_together(kind, machine, F, L):
     """The table that leads standing and guess, one behind the other, to the next, where the rule goes by the guess."""
     by_guess = product(kind, machine[1], F)
-    seen = product(kind, L, machine[2])
-    missed = [difference(kind, noughts(kind, len(row)), row) for row in seen]
-    above = [left + right for left, right in zip(machine[0], by_guess)]
+    missed = negative(kind, product(kind, L, machine[2]))
     inner = ruled(kind, machine, F)
-    return above + [left + difference(kind, right, left) for left, right in zip(missed, inner)]
+    below = [left + difference(kind, right, left) for left, right in zip(missed, inner)]
+    return abreast(machine[0], by_guess) + below

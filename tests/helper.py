@@ -10,6 +10,7 @@ from random import Random
 
 KINDS = (0, 2, 3, 7, 31, 89, 97)
 SMALL_PRIMES = (2, 3, 5)
+PRIMES = [prime for prime in range(2, 100) if all(prime % part for part in range(2, prime))]
 
 
 def dice(name):
@@ -339,6 +340,18 @@ def is_room_against(kind, room, rows, width):
             and all(dot(kind, row, other) == told(kind, 0) for row in room for other in rows))
 
 
+def wanted_sizes(kind, machine):
+    """The four sizes, by how many rows the steered and the unseen room have, apart and together."""
+    n = len(machine[0])
+    steered = plain_steered(kind, machine)
+    pulled = pulled_rows(kind, machine, n)
+    # As many of the steered room are seen as its rows are told apart by what is seen.
+    seen = rank(kind, plain_product(kind, pulled, columns_of(steered))) if steered else 0
+    unseen = n - rank(kind, pulled)
+    a = len(steered) - seen
+    return (a, seen, unseen - a, n - len(steered) - unseen + a)
+
+
 def plain_turned_by(kind, machine, T, S):
     A, B, C = machine
     return (plain_product(kind, plain_product(kind, S, A), T), plain_product(kind, S, B), plain_product(kind, C, T))
@@ -492,3 +505,25 @@ def rule_by_dice(dice_box, kind, machine, figures=1):
 def watcher_by_dice(dice_box, kind, machine, figures=1):
     n, hands, sights = sizes_of(machine)
     return table_by_dice(dice_box, kind, n, sights, figures)
+
+
+def plain_kernel(kind, rows, width):
+    """Rows of so many numbers, as many as there can be, that go against all the told ones."""
+    done = plain_reduced(kind, rows)
+    leads = [next(k for k, x in enumerate(row) if x != told(kind, 0)) for row in done]
+    found = []
+    for free in [k for k in range(width) if k not in leads]:
+        row = unit_table(kind, width)[free]
+        for lead, line in zip(leads, done):
+            row[lead] = told(kind, -plain(kind, line[free]))
+        found.append(row)
+    return found
+
+
+def plain_text(kind, table):
+    """A table's text, by Python's own way to show fractions and whole numbers."""
+    return "; ".join(" ".join(str(plain(kind, x)) for x in row) for row in table)
+
+
+def machine_text(kind, machine):
+    return " | ".join(plain_text(kind, table) for table in machine)

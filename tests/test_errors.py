@@ -66,6 +66,21 @@ INTERFACE = {
         "read_off": ["kind", "marks"],
         "compared": ["kind", "one", "other"],
     },
+    "steermill.joins": {
+        "beside": ["kind", "one", "other"],
+        "behind": ["kind", "one", "other"],
+        "ring": ["kind", "machine"],
+    },
+    "steermill.cheapest": {
+        "cheapest": ["machine", "start", "goal", "turns"],
+    },
+    "steermill.texts": {
+        "show_table": ["kind", "table"],
+        "read_table": ["kind", "text"],
+    },
+    "steermill.desk": {
+        "Desk": [],
+    },
 }
 
 
@@ -90,6 +105,11 @@ class Interface(unittest.TestCase):
             for name, arguments in functions.items():
                 found = getattr(import_module(module), name)
                 self.assertEqual(list(signature(found).parameters), arguments, (module, name))
+
+    def test_a_desk_is_told_rows(self):
+        desk = import_module("steermill.desk").Desk
+        self.assertIsInstance(desk, type)
+        self.assertEqual(list(signature(desk().say).parameters), ["row"])
 
 
 if __name__ == "__main__":

@@ -10,7 +10,7 @@ from steermill.steering import steered_room
 from tests.helper import (KINDS, all_sizes, chain_machine, columns_of, dice, is_machine, is_room_against, is_whole,
                           machine_by_dice, machines_of, nought_machine, noughts, plain_marks, plain_product,
                           plain_reduced, plain_steered, plain_turned_by, pulled_rows, rank, row_by_dice, rows_in_form,
-                          sizes_of, table_by_dice, table_of, told, turn_by_dice, unit_table)
+                          sizes_of, table_by_dice, table_of, told, turn_by_dice, unit_table, wanted_sizes)
 
 
 def stretches_of(sizes):
@@ -24,18 +24,6 @@ def places_of_noughts(sizes):
     one, two, three, four = (list(stretch) for stretch in stretches_of(sizes))
     in_a = [(two, one + three), (three + four, one + two), (four, three)]
     return [place for rows, columns in in_a for place in all_choices(rows, columns)], three + four, one + three
-
-
-def wanted_sizes(kind, machine):
-    """The four sizes, by how many rows the steered and the unseen room have, apart and together."""
-    n = len(machine[0])
-    steered = plain_steered(kind, machine)
-    pulled = pulled_rows(kind, machine, n)
-    # As many of the steered room are seen as its rows are told apart by what is seen.
-    seen = rank(kind, plain_product(kind, pulled, columns_of(steered))) if steered else 0
-    unseen = n - rank(kind, pulled)
-    a = len(steered) - seen
-    return (a, seen, unseen - a, n - len(steered) - unseen + a)
 
 
 class PartCase(unittest.TestCase):

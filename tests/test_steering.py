@@ -1,6 +1,7 @@
 """[10] The steered room; [11] inputs from start to goal, and the fewest turns; [3] steering from nought."""
 
 import unittest
+from fractions import Fraction
 from itertools import product as all_choices
 
 from steermill.machines import next_of, turned_by
@@ -108,6 +109,16 @@ class SteeredRoom(unittest.TestCase):
             self.assertEqual(steered_room(kind, ten), plain_steered(kind, ten))
             chain = chain_machine(kind, (3, 4, 2, 1))
             self.assertEqual(steered_room(kind, chain), unit_table(kind, 10)[:7])
+
+    def test_numbers_with_a_great_prime_in_them(self):
+        # Great primes may serve as a short cut; what they divide, and what goes over them, must not lead astray.
+        for prime in (2 ** 31 - 1, 2 ** 61 - 1, 2 ** 64 - 59):
+            for A, B in ((((0,),), ((prime,),)), (((0,),), ((Fraction(1, prime),),)),
+                         (((0, 0), (prime, 0)), ((1,), (0,))), (((0, 0), (Fraction(1, prime), 0)), ((1,), (0,))),
+                         (((1, prime), (0, 1)), ((prime,), (1,))), (((1, 0), (0, prime + 1)), ((1,), (1,))),
+                         (((1, 0), (0, 1)), ((prime, 1), (1, prime))), (((1, 0), (0, 1)), ((prime,), (1,)))):
+                machine = (table_of(0, *A), table_of(0, *B), table_of(0, [1] * len(A)))
+                self.assertEqual(steered_room(0, machine), plain_steered(0, machine), machine)
 
 
 class SteerCase(unittest.TestCase):

@@ -3,7 +3,10 @@
 import unittest
 from copy import deepcopy
 
-from steermill.errors import NoBack
+from steermill.cheapest import cheapest
+from steermill.desk import Desk
+from steermill.errors import MillError, NoBack, NoText
+from steermill.joins import behind, beside, ring
 from steermill.least import compared, read_off
 from steermill.machines import marks, next_of, run, seen_of, turned_by
 from steermill.numbers import minus, number, over, plus, times
@@ -14,6 +17,7 @@ from steermill.rules import rest_rule, rule_for
 from steermill.seeing import standings, told_apart, unseen_room
 from steermill.steering import fewest, steer, steered_room
 from steermill.tables import back, image, product, reduced, solved, turned
+from steermill.texts import read_table, show_table
 from steermill.watchers import put_together, watcher_for
 from tests.helper import (KINDS, chain_machine, dice, in_form, lists_within, machine_by_dice, nought_machine,
                           noughts, plain_end, plain_marks, plain_run, plain_turned_by, poly_by_dice, resting,
@@ -23,7 +27,8 @@ from tests.helper import (KINDS, chain_machine, dice, in_form, lists_within, mac
 # What is not a list.
 TOLD_AS = {solved: (tuple,), lies_in: (bool,), turned_by: (tuple,), steer: (tuple,), fewest: (int, type(None)),
            told_apart: (tuple,), standings: (tuple,), parting: (tuple,), core: (tuple,), rule_for: (tuple,),
-           rest_rule: (tuple,), watcher_for: (tuple,), read_off: (tuple,), compared: (tuple,)}
+           rest_rule: (tuple,), watcher_for: (tuple,), read_off: (tuple,), compared: (tuple,), beside: (tuple,),
+           behind: (tuple,), ring: (tuple,), cheapest: (tuple,), show_table: (str,)}
 
 
 def asked_of_tables(kind):
@@ -53,6 +58,8 @@ def asked_of_tables(kind):
         (read_off, [kind, [square] * 2]), (read_off, [kind, [square] * 6]), (read_off, [kind, [wide] * 8]),
         (read_off, [kind, [units, square, units, square]]), (read_off, [kind, [[row], [row]]]),
         (read_off, [kind, [[noughts(kind, 2)]] * 4]),
+        (show_table, [kind, square]), (show_table, [kind, [row, row]]), (read_table, [kind, "1"]),
+        (read_table, [kind, "1 0; 1 0; 1 0"]), (read_table, [kind, "0 0 0 0; 0 0 0 0"]),
     ]
 
 
@@ -108,10 +115,35 @@ def asked_of_rules(kind, machine):
             + [(read_off, [kind, told_marks]), (read_off, [kind, told_marks[:2]])])
 
 
+def asked_of_joins(kind, machine):
+    box = dice("untouched joins")
+    n, hands, sights = sizes_of(machine)
+    asked = [(beside, [kind, machine, machine]),
+             (beside, [kind, machine, machine_by_dice(box, kind, 2, hands, sights)]),
+             (beside, [kind, nought_machine(kind, 1, hands, sights), machine]),
+             (behind, [kind, machine, machine_by_dice(box, kind, 3, sights, 2)]),
+             (behind, [kind, machine_by_dice(box, kind, 2, 3, hands), machine]),
+             (behind, [kind, machine, nought_machine(kind, 2, sights, 1)])]
+    if hands == sights:
+        asked += [(ring, [kind, machine]), (behind, [kind, machine, machine])]
+    return asked
+
+
+def asked_of_cheapest(machine):
+    box = dice("untouched costs")
+    n, hands, sights = sizes_of(machine)
+    start, goal, nought = row_by_dice(box, 0, n), row_by_dice(box, 0, n), noughts(0, n)
+    led_to = plain_end(0, machine, start, table_by_dice(box, 0, 3, hands))
+    return [(cheapest, [machine] + handed) for handed in (
+        [start, start, 0], [start, goal, 0], [start, goal, 2], [start, led_to, 3], [nought, nought, 8])]
+
+
 def asked(kind):
     told_cases = asked_of_tables(kind)
     for machine in untouched_machines(kind):
-        told_cases += asked_of_machine(kind, machine) + asked_of_rules(kind, machine)
+        told_cases += asked_of_machine(kind, machine) + asked_of_rules(kind, machine) + asked_of_joins(kind, machine)
+        if kind == 0:
+            told_cases += asked_of_cheapest(machine)
     return told_cases
 
 
@@ -166,6 +198,22 @@ class Untouched(unittest.TestCase):
             with self.assertRaises(NoBack):
                 back(kind, table)
             self.assertEqual(table, before)
+
+    def test_what_is_no_text_is_left_as_it_is_too(self):
+        for kind in KINDS:
+            rows = [["1", "0"], ["kind 0"]]
+            before = deepcopy(rows)
+            with self.assertRaises(NoText):
+                read_table(kind, rows)
+            with self.assertRaises(MillError):
+                Desk().say(rows)
+            self.assertEqual(rows, before)
+
+    def test_tables_read_twice_are_two(self):
+        for kind in KINDS:
+            one, other = read_table(kind, "1 0; 1 0"), read_table(kind, "1 0; 1 0")
+            spoil(one)
+            self.assertEqual(other, table_of(kind, (1, 0), (1, 0)))
 
 
 class Kinds(unittest.TestCase):
